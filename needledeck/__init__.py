@@ -1,0 +1,1 @@
+"""Cards with notches at their edge, needles that let them drop, and words of notches."""
