@@ -79,6 +79,13 @@ class TestForm(unittest.TestCase):
                 if isinstance(node, ast.Name):
                     self.assertFalse(node.id.startswith("_"))
                     self.assertTrue(node.id in OWN_NAMES or not hasattr(builtins, node.id))
+                    self.assertFalse(isinstance(node.ctx, ast.Store) and hasattr(builtins, node.id))
+                if isinstance(node, ast.arg):
+                    self.assertFalse(node.arg.startswith("_") or hasattr(builtins, node.arg))
+                if isinstance(node, ast.BinOp) and isinstance(node.op, ast.Pow):
+                    self.assertIsInstance(node.right, ast.Constant)
+                if isinstance(node, ast.Call):
+                    self.assertFalse(any(isinstance(thing, ast.Starred) for thing in node.args))
 
 
 if __name__ == "__main__":

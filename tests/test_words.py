@@ -4,21 +4,10 @@ import inspect
 import itertools
 import unittest
 
+from common import Unfriendly
 from needledeck import words
 from needledeck.errors import NoHoles, NoWord
 from needledeck.words import all_words, beyond, check_word, together, within
-
-
-class Unfriendly:
-    """A thing that lets nothing be done with it."""
-
-    def refuse(self, *others):
-        raise RuntimeError("left alone")
-
-    __eq__ = __lt__ = __gt__ = __le__ = __ge__ = __len__ = __iter__ = refuse
-    __bool__ = __int__ = __index__ = __repr__ = __str__ = refuse
-    __hash__ = None
-
 
 NO_HOLES = (0, -1, -60, 61, 62, 1000, 10 ** 5000, -(10 ** 5000), True, False, "8", "", b"8", None, [8], [], (8,), (),
             {8}, {8: 8}, 8.0, 1.5, float("nan"), 8j, int, len, Unfriendly())
