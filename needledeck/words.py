@@ -22,11 +22,16 @@ def is_word(holes, thing):
     return True
 
 
-def check_word(holes, word):
-    """Refuse holes that are none with NoHoles, then what is no word of so many with NoWord."""
+def check_holes(holes):
+    """Refuse holes that are none with NoHoles."""
     # The refusals don't show what was handed in: it may be anything, also what can't be shown.
     if not is_whole(holes) or holes < 1 or holes > MOST_HOLES:
         raise NoHoles(f"holes are a whole number from 1 to {MOST_HOLES}")
+
+
+def check_word(holes, word):
+    """Refuse holes that are none with NoHoles, then what is no word of so many with NoWord."""
+    check_holes(holes)
     if not is_word(holes, word):
         raise NoWord("a word is a tuple of rising places, each from 0 to one less than the holes")
 

@@ -179,6 +179,8 @@ class TestShowsFewest(OwnLists, unittest.TestCase):
                            (0, 0, False), (2, 2, False), (-5, 2, False), (0, -1, False), (-3, -1, False), (0, 5, False),
                            (0, 10 ** 20 - 1, False)):
             self.assertIs(shows_fewest(2, deck, ("same", i, j)), same)
+        for told in ("", "Same", "same ", "torn", "places", "alike"):
+            self.assertIs(shows_fewest(2, deck, (told, 0, 2)), False)
         for places in words(2):
             self.assertIs(shows_fewest(2, deck, ("places", places, all_pairs(deck))), False)
         self.assertIs(shows_fewest(2, [(0,), (1,)], ("same", 0, 1)), False)
