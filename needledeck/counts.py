@@ -1,59 +1,50 @@
 """Counts of all needlings: for each word, in the words' order, how many cards of a deck drop at it."""
 
-from needledeck.words import all_words
-
-# Within this file a word also goes by its mask: the number whose binary figures are 1 at the word's places.
-# So the word with one place more is had by one step.
+from needledeck.words import all_words, together
 
 
-def mask_of(word):
-    """Tell the mask of a word."""
-    return sum([1 << place for place in word])
+def order_of(holes):
+    """Tell for each word its number in the words' order; they are walked in that order, too."""
+    return {word: number for number, word in enumerate(all_words(holes))}
 
 
-def by_masks(holes, numbers):
-    """Tell numbers in the words' order anew, each at its word's mask."""
-    told = [0] * len(numbers)
-    for word, number in zip(all_words(holes), numbers):
-        told[mask_of(word)] = number
-    return told
-
-
-def put_to(many, place, times):
-    """Put to the number of each mask without a place so many times that of the mask with it."""
-    bit = 1 << place
-    return [number if mask & bit else number + times * many[mask | bit] for mask, number in enumerate(many)]
+def put_to(numbers, order, place, times):
+    """Tell numbers anew: each word without a place gets so many times that of the word that has it, too."""
+    return [number if place in word else number + times * numbers[order[together(word, (place,))]]
+            for word, number in zip(order, numbers)]
 
 
 def counts(holes, deck):
     """Tell for each word how many cards of a deck drop when it is needled with that word."""
-    many = [0] * (1 << holes)
+    order = order_of(holes)
+    told = [0] * len(order)
     for card in deck:
-        many[mask_of(card)] += 1
-    # Behind each place a mask counts the cards that have its places and, beyond those seen, no others.
+        told[order[card]] += 1
+    # At places gone through a word counts cards with notches beyond its own, at the others none but its like.
     for place in range(holes):
-        many = put_to(many, place, 1)
-    return [many[mask_of(word)] for word in all_words(holes)]
+        told = put_to(told, order, place, 1)
+    return told
 
 
-def parted_by(holes, numbers, places):
-    """Tell at each mask how many of the cards it counts are notched at none of the places that it hasn't."""
-    many = by_masks(holes, numbers)
+def parted_by(order, numbers, places):
+    """Tell for each word how many of the cards it counts are notched at none of the places that it hasn't."""
+    told = numbers
     for place in places:
-        many = put_to(many, place, -1)
-    return many
+        told = put_to(told, order, place, -1)
+    return told
 
 
 def deck_of(holes, numbers):
     """Tell the deck of which these are the counts, or a word of which there would be fewer than 0 cards."""
-    words = all_words(holes)
-    many = parted_by(holes, numbers, tuple(range(holes)))
-    for word in words:
-        if many[mask_of(word)] < 0:
+    order = order_of(holes)
+    many = parted_by(order, numbers, tuple(range(holes)))
+    for word, cards in zip(order, many):
+        if cards < 0:
             return ("never", word)
-    return ("deck", [word for word in words for card in range(many[mask_of(word)])])
+    return ("deck", [word for word, cards in zip(order, many) for card in range(cards)])
 
 
 def just(holes, numbers, notched, whole):
     """Tell how many cards are notched at all places of one word and at none of another one."""
-    return parted_by(holes, numbers, whole)[mask_of(notched)]
+    order = order_of(holes)
+    return parted_by(order, numbers, whole)[order[notched]]
